@@ -17,7 +17,6 @@ import (
 const (
 	maxText   = 1024
 	maxMarked = 1023 // of a state and a change
-	crcSize   = 4
 )
 
 // some are bytes without a rule, the same at every run.
@@ -73,8 +72,13 @@ func numberByTheWords(n int) string {
 	return string([]byte{byte(len(b))}) + string(b)
 }
 
+// withCrc are bytes and their crc, as of a record.
+func withCrc(b string) string {
+	return b + string(binary.BigEndian.AppendUint32(nil, crc32.ChecksumIEEE([]byte(b))))
+}
+
 func recordByTheWords(s string) string {
-	return numberByTheWords(len(s)) + s + string(binary.BigEndian.AppendUint32(nil, crc32.ChecksumIEEE([]byte(s))))
+	return withCrc(numberByTheWords(len(s)) + s)
 }
 
 func logByTheWords(l []string) string {
@@ -310,17 +314,18 @@ func TestCrc(t *testing.T) {
 	}
 }
 
-// P9.1: by hand.
+// P9.1: by hand, with crcs that Python's zlib told.
 func TestRecordExamples(t *testing.T) {
 	for _, x := range []struct{ s, wanted string }{
-		{"", "\x00\x00\x00\x00\x00"},
-		{"a", "\x01\x01a\xe8\xb7\xbe\x43"},
-		{"ab", "\x01\x02ab\x9e\x83\x48\x6d"},
-		{"ca", "\x01\x02ca\x35\xbc\x7b\x55"},
-		{"\x00", "\x01\x01\x00\xd2\x02\xef\x8d"},
-		{"\xff", "\x01\x01\xff\xff\x00\x00\x00"},
-		{"123456789", "\x01\x09123456789\xcb\xf4\x39\x26"},
-		{strings.Repeat("x", maxText), "\x02\x04\x00" + strings.Repeat("x", maxText) + "\x48\xd7\xf0\x63"},
+		{"", "\x00\xd2\x02\xef\x8d"},
+		{"a", "\x01\x01a\xdd\x2d\xd3\xaa"},
+		{"ab", "\x01\x02ab\x45\x26\x36\x85"},
+		{"ca", "\x01\x02ca\xee\x19\x05\xbd"},
+		{"s\x1cB", "\x01\x03s\x1cB\xc1\xe5\xda\xab"},
+		{"\x00", "\x01\x01\x00\xe7\x98\x82\x64"},
+		{"\xff", "\x01\x01\xff\xca\x9a\x6d\xe9"},
+		{"123456789", "\x01\x09123456789\x7b\xe1\x68\x6e"},
+		{strings.Repeat("x", maxText), "\x02\x04\x00" + strings.Repeat("x", maxText) + "\x12\x21\xc6\x64"},
 	} {
 		wantBytes(t, "Record", record(t, x.s), x.wanted)
 		wantBytes(t, "Write", write(t, []string{x.s}), x.wanted)
@@ -338,6 +343,18 @@ func TestRecords(t *testing.T) {
 			r := record(t, s)
 			wantBytes(t, "Record", r, recordByTheWords(s))
 			wantCut(t, "a record", r, []string{s})
+		}
+	}
+}
+
+// P9.1, P9.2: the crc is that of the text's bytes, how many it has ahead of it with them; with that of the text alone it is no record.
+func TestCrcIsOfTheTextsBytes(t *testing.T) {
+	for many := range maxText + 1 {
+		for _, s := range texts(many) {
+			b := numberByTheWords(many) + s
+			r := record(t, s)
+			wantBytes(t, "Record", r, b+string(binary.BigEndian.AppendUint32(nil, log.Crc(b))))
+			wantCut(t, "the crc of the text alone", numberByTheWords(many)+withCrc(s)+r, nil)
 		}
 	}
 }
@@ -475,18 +492,18 @@ func TestAllShortLogs(t *testing.T) {
 	}
 }
 
-// P9.3: by hand.
+// P9.3: by hand, with crcs that Python's zlib told.
 func TestPackExamples(t *testing.T) {
 	for _, x := range []struct {
 		state  string
 		later  []string
 		wanted string
 	}{
-		{"", nil, "\x01\x01s\x1b\x0e\xcf\x0b"},
-		{"", []string{}, "\x01\x01s\x1b\x0e\xcf\x0b"},
-		{"one", nil, "\x01\x04sone\xdd\xe3\x8f\x8d"},
-		{"one", []string{"a"}, "\x01\x04sone\xdd\xe3\x8f\x8d\x01\x02ca\x35\xbc\x7b\x55"},
-		{"one", []string{"", "a"}, "\x01\x04sone\xdd\xe3\x8f\x8d\x01\x01c\x06\xb9\xdf\x6f\x01\x02ca\x35\xbc\x7b\x55"},
+		{"", nil, "\x01\x01s\x2e\x94\xa2\xe2"},
+		{"", []string{}, "\x01\x01s\x2e\x94\xa2\xe2"},
+		{"one", nil, "\x01\x04sone\x73\xb9\x84\x57"},
+		{"one", []string{"a"}, "\x01\x04sone\x73\xb9\x84\x57\x01\x02ca\xee\x19\x05\xbd"},
+		{"one", []string{"", "a"}, "\x01\x04sone\x73\xb9\x84\x57\x01\x01c\x33\x23\xb2\x86\x01\x02ca\xee\x19\x05\xbd"},
 	} {
 		wantBytes(t, "Pack", pack(t, x.state, x.later), x.wanted)
 		wantRecovered(t, "Pack", x.wanted, x.state, x.later)
@@ -619,25 +636,28 @@ func TestSpoiltBytes(t *testing.T) {
 	}
 }
 
-// P9.2: what looks as a record, but is none.
+// P9.2: what looks as a record, but is none. What spoils it is under the crc, where it is not the crc itself.
 func TestOtherRecords(t *testing.T) {
 	for _, x := range places() {
 		ahead, behind := logByTheWords(x.l[:x.at]), logByTheWords(x.l[x.at+1:])
 		text := x.l[x.at]
-		r := recordByTheWords(text)
-		size, crc := numberByTheWords(len(text)), crc32.ChecksumIEEE([]byte(text))
-		bare := r[:len(r)-crcSize]
+		size := numberByTheWords(len(text))
+		bare := size + text
+		r, crc := withCrc(bare), crc32.ChecksumIEEE([]byte(bare))
 		for what, s := range map[string]string{
-			"a byte 0 ahead of the size":    string([]byte{size[0] + 1}) + "\x00" + r[1:],
-			"two bytes 0 ahead of the size": string([]byte{size[0] + 2}) + "\x00\x00" + r[1:],
-			"a size of 8 bytes":             "\x08" + strings.Repeat("\x00", 8-int(size[0])) + r[1:],
-			"a size of 9 bytes":             "\x09" + strings.Repeat("\x00", 9-int(size[0])) + r[1:],
+			"a byte 0 ahead of the size":    withCrc(string([]byte{size[0] + 1}) + "\x00" + bare[1:]),
+			"two bytes 0 ahead of the size": withCrc(string([]byte{size[0] + 2}) + "\x00\x00" + bare[1:]),
+			"a size of 8 bytes":             withCrc("\x08" + strings.Repeat("\x00", 8-int(size[0])) + bare[1:]),
+			"a size of 9 bytes":             withCrc("\x09" + strings.Repeat("\x00", 9-int(size[0])) + bare[1:]),
+			"a size that is too small":      numberByTheWords(len(text)/2) + text[:len(text)/2] + r[len(bare):],
+			"no size":                       withCrc(text),
+			"the crc of the text alone":     size + withCrc(text),
 			"the lowest byte first":         bare + string(binary.LittleEndian.AppendUint32(nil, crc)),
-			"the crc of text and size":      bare + string(binary.BigEndian.AppendUint32(nil, crc32.ChecksumIEEE([]byte(bare)))),
+			"the crc of the size":           bare + withCrc(size)[len(size):],
 			"a crc that is not turned":      bare + string(binary.BigEndian.AppendUint32(nil, ^crc)),
-			"a crc by another number":       bare + string(binary.BigEndian.AppendUint32(nil, crc32.Checksum([]byte(text), crc32.MakeTable(crc32.Castagnoli)))),
+			"a crc by another number":       bare + string(binary.BigEndian.AppendUint32(nil, crc32.Checksum([]byte(bare), crc32.MakeTable(crc32.Castagnoli)))),
 			"a text alone":                  bare,
-			"a crc ahead":                   r[len(r)-crcSize:] + bare,
+			"a crc ahead":                   r[len(bare):] + bare,
 		} {
 			wantAsByTheWords(t, what, ahead+s+behind)
 			if s != r { // of an empty text some are the same
@@ -647,15 +667,14 @@ func TestOtherRecords(t *testing.T) {
 	}
 }
 
-// P9.2: sizes with bytes 0 ahead, whose text and crc are right.
+// P9.2: sizes with bytes 0 ahead, whose text, and crc of all of it, are right.
 func TestSizesWithZeros(t *testing.T) {
 	for _, ahead := range [][]string{nil, {"sone"}, {"sone", "ca"}} {
 		for _, many := range sizes() {
 			text := strings.Repeat("c", many)
 			size := numberByTheWords(many)
-			r := recordByTheWords(text)
 			for zeros := 1; zeros <= 9; zeros++ {
-				wide := string([]byte{size[0] + byte(zeros)}) + strings.Repeat("\x00", zeros) + r[1:]
+				wide := withCrc(string([]byte{size[0] + byte(zeros)}) + strings.Repeat("\x00", zeros) + size[1:] + text)
 				wantCut(t, fmt.Sprint(zeros, " bytes 0 ahead"), logByTheWords(ahead)+wide+recordByTheWords("cb"), ahead)
 			}
 		}
@@ -692,7 +711,7 @@ func TestSizesTooFar(t *testing.T) {
 // P9.2: bytes that are no record's from the first one on.
 func TestNoRecords(t *testing.T) {
 	whole := logByTheWords([]string{"sone", "ca"})
-	for _, s := range []string{"", "s", "c", "\x01", "\x00", "\x00\x00\x00\x00", "\xff", "one", "\x01\x01s", "\x00" + whole, "\x01" + whole, "\x09" + whole, "s" + whole, "\xff" + whole, whole[1:], whole[5:9], some(9, 2000)} {
+	for _, s := range []string{"", "s", "c", "\x01", "\x00", "\x00\x00\x00\x00", "\x00\x00\x00\x00\x00", "\x01\x01s\x1b\x0e\xcf\x0b", "\xff", "one", "\x01\x01s", "\x00" + whole, "\x01" + whole, "\x09" + whole, "s" + whole, "\xff" + whole, whole[1:], whole[5:9], some(9, 2000)} {
 		wantCut(t, "no records", s, nil)
 	}
 	for a := range 256 {
@@ -711,20 +730,30 @@ func TestMoreBytes(t *testing.T) {
 			wantCut(t, "a byte behind", s+string([]byte{byte(b)}), l)
 		}
 		r := recordByTheWords("stwo")
-		for _, more := range []string{"\x00\x00", "\x00\x00\x00\x00", r[:1], r[:5], r[:len(r)-1], r[1:], "\xff" + r, "\x00" + r, "\n", some(2, 3000), r[:len(r)-1] + r, "\x00\x00\x00\x00\x01"} {
+		for _, more := range []string{"\x00\x00", "\x00\x00\x00\x00", r[:1], r[:5], r[:len(r)-1], r[1:], "\xff" + r, "\x00" + r, "\n", some(2, 3000), r[:len(r)-1] + r, "\x00\x00\x00\x00\x00", "\x00\xd2\x02\xef", "\x00\xd2\x02\xef\x8c"} {
 			wantCut(t, "bytes behind", s+more, l)
 		}
 	}
 }
 
-// P9.2: five bytes 0 are an empty text's record, as others are.
+// P9.2: bytes 0 are no record, however many there are: an empty text's one byte 0 has another crc.
 func TestZeros(t *testing.T) {
-	for many := range 1000 {
+	for many := 1; many < 1000; many++ {
 		s := strings.Repeat("\x00", many)
-		empty := make([]string, many/5)
-		wantCut(t, "bytes 0", s, empty)
-		wantScanned(t, "bytes 0 behind", recordByTheWords("sone")+s, append([]string{"sone"}, empty...), 10+many/5*5)
-		wantRecovered(t, "bytes 0 between", recordByTheWords("sone")+s[:many/5*5]+recordByTheWords("ca"), "one", []string{"a"})
+		wantCut(t, "bytes 0", s, nil)
+		wantCut(t, "bytes 0 behind", recordByTheWords("sone")+s, []string{"sone"})
+		wantCut(t, "bytes 0 between", recordByTheWords("sone")+s+recordByTheWords("ca"), []string{"sone"})
+	}
+}
+
+// P9.2: an empty text's record is one as others are.
+func TestEmptyTexts(t *testing.T) {
+	for many := range 1000 {
+		s := strings.Repeat("\x00\xd2\x02\xef\x8d", many)
+		empty := make([]string, many)
+		wantCut(t, "empty texts", s, empty)
+		wantScanned(t, "empty texts behind", recordByTheWords("sone")+s, append([]string{"sone"}, empty...), 10+5*many)
+		wantRecovered(t, "empty texts between", recordByTheWords("sone")+s+recordByTheWords("ca"), "one", []string{"a"})
 	}
 }
 
@@ -759,7 +788,7 @@ func TestOthersByTheWords(t *testing.T) {
 // P1: a long log is gone through to its end.
 func TestLongLogs(t *testing.T) {
 	many := 200000
-	wantScanned(t, "empty texts", strings.Repeat("\x00", 5*many), make([]string, many), 5*many)
+	wantScanned(t, "empty texts", strings.Repeat(recordByTheWords(""), many), make([]string, many), 5*many)
 	wantRecovered(t, "changes", strings.Repeat(recordByTheWords("ca"), many), "", slices.Repeat([]string{"a"}, many))
 	wantRecovered(t, "states", strings.Repeat(recordByTheWords("sa"), many), "a", nil)
 }

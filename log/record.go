@@ -49,11 +49,12 @@ func records(s string) iter.Seq2[string, int] {
 	}
 }
 
-// first is the text of the record that bytes begin with, and how many bytes the record has. To wire the crc behind a text is more than there was to read, so its fault is where the text ends, or at 0 if there is no text, or nothing behind it.
+// first is the text of the record that bytes begin with, and how many bytes the record has. To wire the crc behind a text is more than there was to read, so its fault is where the text's bytes end, or at 0 if there is no text, or nothing behind it.
 func first(s string) (string, int, bool) {
 	_, end, _ := wire.Unpack(s, "t")
-	l, _, why := wire.Unpack(s[:end], "t")
-	if why != api.OK || !strings.HasPrefix(s[end:], crcBytes(l[0].S)) {
+	textBytes, behind := s[:end], s[end:]
+	l, _, why := wire.Unpack(textBytes, "t")
+	if why != api.OK || !strings.HasPrefix(behind, crcBytes(textBytes)) {
 		return "", 0, false
 	}
 	return l[0].S, end + crcSize, true
